@@ -194,16 +194,27 @@ func TestP28RowsAreLines(t *testing.T) {
 	}
 }
 
-// TestColumnsAreRowsTurnedRound holds IsCol against a walk in which the first number goes on first, and against IsRow of the turned view.
-func TestColumnsAreRowsTurnedRound(t *testing.T) {
+// TestP29ColumnsAreRowsTurnedRound holds IsCol against a walk in which the first number goes on first, and against IsRow of the view with its dimensions in reverse order.
+func TestP29ColumnsAreRowsTurnedRound(t *testing.T) {
+	cols := 0
 	for _, v := range manyViews() {
 		line := true
 		for _, index := range plainWalk(v.Shape) {
 			line = line && plainCell(v, index) == v.Base+plainColumn(v.Shape, index)
 		}
-		if impl.IsCol(v) != line || impl.IsCol(v) != impl.IsRow(turned(v)) {
+		rows, ok := impl.PermuteDims(v, backward(firstNumbers(len(v.Shape))))
+		if !ok || !sameViews(rows, turned(v)) {
+			t.Fatalf("PermuteDims of %v in reverse order = %v, %v", v, rows, ok)
+		}
+		if impl.IsCol(v) != line || impl.IsCol(v) != impl.IsRow(rows) {
 			t.Fatalf("IsCol(%v) = %v", v, impl.IsCol(v))
 		}
+		if line && len(plainWalk(v.Shape)) > 1 {
+			cols++
+		}
+	}
+	if cols == 0 || cols == len(manyViews()) {
+		t.Fatalf("%d of %d views are columns", cols, len(manyViews()))
 	}
 }
 
