@@ -259,8 +259,9 @@ func TestP31ViewsFitUpToTheirGreatestCell(t *testing.T) {
 	}
 }
 
-// TestOneToOneViewsHaveNoRepeats counts how often a walk through the cells of a view comes to each of them.
-func TestOneToOneViewsHaveNoRepeats(t *testing.T) {
+// TestP32OneToOneViewsHaveNoRepeats counts how often a walk through the cells of a view comes to each of them.
+func TestP32OneToOneViewsHaveNoRepeats(t *testing.T) {
+	views := map[bool]int{}
 	for _, v := range manyViews() {
 		want := true
 		var times [impl.MaxCells]int
@@ -268,8 +269,12 @@ func TestOneToOneViewsHaveNoRepeats(t *testing.T) {
 			times[cell]++
 			want = want && times[cell] == 1
 		}
-		if got := impl.IsOneToOne(v); got != want {
-			t.Fatalf("IsOneToOne(%v) = %v", v, got)
+		if got := impl.IsOneToOne(v); got != want || got != (len(impl.RepeatsOf(v)) == 0) {
+			t.Fatalf("IsOneToOne(%v) = %v, and RepeatsOf = %v", v, got, impl.RepeatsOf(v))
 		}
+		views[want]++
+	}
+	if views[true] == 0 || views[false] == 0 {
+		t.Fatalf("views are one to one or not: %v", views)
 	}
 }

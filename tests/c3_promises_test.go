@@ -399,9 +399,9 @@ func TestP47JoinedDimensionsHaveTheSameCells(t *testing.T) {
 	}
 }
 
-// TestSameViewsHaveTheSameBounds holds SameView against a walk through the cells of both views.
-func TestSameViewsHaveTheSameBounds(t *testing.T) {
-	list := append(someOf(someViews(), 5), vw(5, ints(1), 0), vw(0, ints(0), 0), vw(5, ints(2, 1, 3), 3, 0, 1), vw(0, ints(12), 1))
+// TestP48SameViewsLoadTheSame holds SameView against a walk through the cells of both views.
+func TestP48SameViewsLoadTheSame(t *testing.T) {
+	list := append(someOf(someViews(), 5), vw(5, ints(1), 0), vw(0, ints(0), 0), vw(5, ints(2, 1, 3), 3, 0, 1), vw(0, ints(12), 1), vw(4, ints(3, 1, 3), 1, 60, 1), vw(4, ints(3, 1, 3), 1, 0, 1))
 	same := 0
 	for i, a := range list {
 		for _, b := range list[i:] {
@@ -414,8 +414,8 @@ func TestSameViewsHaveTheSameBounds(t *testing.T) {
 			}
 			same++
 			low, high := impl.BoundsOf(a)
-			if otherLow, otherHigh := impl.BoundsOf(b); low != otherLow || high != otherHigh || impl.IsOneToOne(a) != impl.IsOneToOne(b) {
-				t.Fatalf("%v and %v are the same, but BoundsOf or IsOneToOne are not", a, b)
+			if otherLow, otherHigh := impl.BoundsOf(b); low != otherLow || high != otherHigh || !slices.Equal(impl.RepeatsOf(a), impl.RepeatsOf(b)) {
+				t.Fatalf("%v and %v are the same, but BoundsOf or RepeatsOf are not", a, b)
 			}
 		}
 	}
